@@ -1,0 +1,1 @@
+"""Lamprota: a lighthouse's rota of lamps and oil."""

@@ -1,0 +1,23 @@
+import importlib
+import inspect
+import unittest
+
+NAMES = {
+    "books": ("made_book(store, oil, lamps, days)", "night_need(book, day)", "need(book)", "can_burn(book, lamp, day)",
+              "cut_to(book, many)", "left_out(book, lamp)", "boat_moved(book, day, other)", "with_store(book, store)",
+              "with_oil(book, oil)"),
+    "walk": ("fault(book, rota)", "keeps(book, rota)", "evenings(book, rota)", "cost(book, rota)",
+             "burnt(book, rota)"),
+    "laying": ("laid(length, wanted, ticks)", "steady(length, wanted, lamps, spans)", "ticks_in(lamps, spans)",
+               "lit(lamps, spans)", "burning(spans, tick)"),
+}
+
+
+class Interface(unittest.TestCase):
+    def test_every_name_is_there_with_its_arguments(self):
+        for file, forms in NAMES.items():
+            module = importlib.import_module("lamprota." + file)
+            for form in forms:
+                name = form.split("(")[0]
+                self.assertEqual(name + str(inspect.signature(getattr(module, name))), form)
+                self.assertEqual(getattr(module, name).__module__, "lamprota." + file)
