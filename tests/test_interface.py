@@ -10,6 +10,13 @@ NAMES = {
              "burnt(book, rota)"),
     "laying": ("laid(length, wanted, ticks)", "steady(length, wanted, lamps, spans)", "ticks_in(lamps, spans)",
                "lit(lamps, spans)", "burning(spans, tick)"),
+    "webs": ("amount(web, first, last, flow)", "side_worth(web, side)", "is_side(web, first, last, side)",
+             "most_flow(web, first, last)", "least_side(web, first, last)"),
+    "bookweb": ("web_of(book)", "store_node(book, day)", "tank_node(book, lamp, day)", "flame_node(book, lamp, day)",
+                "night_node(book, day)", "rota_by(book, flow)", "flow_by(book, rota)"),
+    "telling": ("told(book)", "none_stands(book, side)"),
+    "cheapest": ("flow_sum(web, flow)", "worths_stand(web, flow, worths)", "cheapest_flow(web, first, last, much)",
+                 "cheapest(book)"),
 }
 
 
