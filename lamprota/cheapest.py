@@ -71,7 +71,7 @@ def add_neighbours(slope, slack, node, far, waiting):
 
 
 def distances(slope, slack):
-    """For each node how far it is to one that lacks something; for those that are further than each surplus, that.
+    """For each node how far it is to one that lacks something; all beyond the furthest surplus count as one further.
 
     An arc is as long as the count of slacks by which its tail must sink until the arc just leads downhill.
     """
