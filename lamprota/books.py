@@ -101,10 +101,20 @@ def boat_of(book, day):
     return boat
 
 
+def with_day_part(book, day, part, number):
+    """The book with a day that has another number at one of its parts."""
+    store, oil, lamps, days = book
+    return (store, oil, lamps, replaced(days, day, replaced(days[day], part, number)))
+
+
 def with_boat(book, day, boat):
     """The book with a day whose boat brings so much."""
-    store, oil, lamps, days = book
-    return (store, oil, lamps, replaced(days, day, (boat,) + days[day][1:]))
+    return with_day_part(book, day, 0, boat)
+
+
+def with_wanted(book, day, wanted):
+    """The book with a day in whose night so many lamps must burn."""
+    return with_day_part(book, day, 4, wanted)
 
 
 def boat_moved(book, day, other):

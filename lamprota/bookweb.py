@@ -87,10 +87,15 @@ def named_ties(book):
     return sorted(ties)
 
 
+def many_nodes(book):
+    """How many nodes the web of a book has."""
+    # The store of a day behind the last one would be the first node that is not there.
+    return store_node(book, len(book[3]))
+
+
 def web_of(book):
     """The web of a book."""
-    # The store of a day behind the last one would be the first node that is not there.
-    return (store_node(book, len(book[3])), tuple([tie for tie, name in named_ties(book)]))
+    return (many_nodes(book), tuple([tie for tie, name in named_ties(book)]))
 
 
 def turn_by(book, day, tanks, flows):

@@ -21,6 +21,18 @@ def some_book(chance, most_lamps, most_days, much, free):
     return (chance.randint(0, much), chance.randint(0, free), tuple(lamps), days)
 
 
+def tight_book(chance, most_lamps, most_days):
+    """A small book in which oil comes seldom, so that what is kept over a night decides."""
+    count, many = chance.randint(1, most_lamps), chance.randint(2, most_days)
+    lamps = []
+    for lamp in range(count):
+        tank = chance.randint(1, 3)
+        lamps.append((tank, chance.randint(0, tank), some_away(chance, many, 0.1)))
+    days = tuple((chance.choice((0, 0, 3, 5)), chance.choice((0, 0, 1)), chance.randint(0, 4), chance.randint(1, 2),
+                  min(count, chance.randint(0, 2))) for day in range(many))
+    return (chance.randint(0, 3), chance.randint(0, 4), tuple(lamps), days)
+
+
 def some_night(chance, levels, can_burn):
     """A length, a wanted, spans that light just as many lamps in each tick, and the levels behind them."""
     length, levels, spans = chance.randint(1, 4), list(levels), []
@@ -95,8 +107,11 @@ def web_of(book):
     return (2 + len(days) * (2 * n + 2), tuple(sorted(ties)))
 
 
-def behind(book, day, store, levels):
-    """Each (bought, store, levels) that a day and its night can leave where all of the boat is taken."""
+def behind(book, day, store, levels, most_ticks):
+    """Each (bought, store, levels) that a day and its night can leave where all of the boat is taken.
+
+    No lamp burns more than most_ticks in the night.
+    """
     keep, oil, lamps, days = book
     boat, most, price, length, wanted = days[day]
     for bought in range(most + 1):
@@ -106,20 +121,24 @@ def behind(book, day, store, levels):
             if sum(poured) > has:
                 continue
             filled = [level + much for level, much in zip(levels, poured)]
-            burns = [range(1 if day in lamp[2] else min(length, level) + 1) for lamp, level in zip(lamps, filled)]
+            burns = [range(1 if day in lamp[2] else min(length, most_ticks, level) + 1)
+                     for lamp, level in zip(lamps, filled)]
             for ticks in itertools.product(*burns):
                 if sum(ticks) == wanted * length:
                     left = tuple(level - much for level, much in zip(filled, ticks))
                     yield bought, min(keep, has - sum(poured)), left
 
 
-def least_cost(book):
-    """The least cost of a rota that keeps the book, by going through all that can be held; None for none."""
+def least_cost(book, most_ticks=99):
+    """The least cost of a rota that keeps the book, by going through all that can be held; None for none.
+
+    No lamp burns more than most_ticks in any one night.
+    """
     costs = {(book[1], tuple(lamp[1] for lamp in book[2])): 0}
     for day in range(len(book[3])):
         later = {}
         for (store, levels), so_far in costs.items():
-            for bought, kept, left in behind(book, day, store, levels):
+            for bought, kept, left in behind(book, day, store, levels, most_ticks):
                 total = so_far + bought * book[3][day][2]
                 later[(kept, left)] = min(total, later.get((kept, left), total))
         costs = later

@@ -2,6 +2,8 @@ import importlib
 import inspect
 import unittest
 
+from lamprota.watch import Watch
+
 NAMES = {
     "books": ("made_book(store, oil, lamps, days)", "night_need(book, day)", "need(book)", "can_burn(book, lamp, day)",
               "cut_to(book, many)", "left_out(book, lamp)", "boat_moved(book, day, other)", "with_store(book, store)",
@@ -17,7 +19,14 @@ NAMES = {
     "telling": ("told(book)", "none_stands(book, side)"),
     "cheapest": ("flow_sum(web, flow)", "worths_stand(web, flow, worths)", "cheapest_flow(web, first, last, much)",
                  "cheapest(book)"),
+    "leasts": ("least_oil(book)", "least_store(book)", "longest_beginning(book)", "boat_days(book, day)",
+               "spared(book)"),
+    "even": ("most_even(book)", "even_web(book, ticks)"),
+    "watch": ("Watch(book)",),
+    "texts": ("book_text(book)", "read_book(text)", "answered(text)"),
 }
+METHODS = ("today(self)", "rest(self)", "told(self)", "night(self, day)", "fails(self, lamp)", "boat(self, day, much)",
+           "wants(self, day, wanted)", "back(self)", "left(self)")
 
 
 class Interface(unittest.TestCase):
@@ -28,3 +37,8 @@ class Interface(unittest.TestCase):
                 name = form.split("(")[0]
                 self.assertEqual(name + str(inspect.signature(getattr(module, name))), form)
                 self.assertEqual(getattr(module, name).__module__, "lamprota." + file)
+
+    def test_a_watch_has_its_methods_with_their_arguments(self):
+        for form in METHODS:
+            name = form.split("(")[0]
+            self.assertEqual(name + str(inspect.signature(getattr(Watch, name))), form)

@@ -118,7 +118,7 @@ class Tops(unittest.TestCase):
 
 
 class Code(unittest.TestCase):
-    """L4 to L8, L12, L20, L22 to L25 and L27."""
+    """L4 to L8, L12, L18, L20, L22 to L27."""
 
     def test_only_nodes_of_the_rules(self):
         for file, node in nodes(ast.AST):
@@ -159,6 +159,16 @@ class Code(unittest.TestCase):
         for file, node in nodes(ast.Call):
             if isinstance(node.func, ast.Attribute):
                 self.assertIn(node.func.attr, METHODS | own, (file, node.lineno))
+
+    def test_names_of_methods_and_values(self):
+        """L18 and L26."""
+        methods = {node.name for file, owner in nodes(ast.ClassDef) for node in owner.body
+                   if isinstance(node, ast.FunctionDef)}
+        values = {node.attr for file, node in nodes(ast.Attribute) if isinstance(node.ctx, ast.Store)}
+        of_python = {name for kind in (str, int, list, dict, set, tuple, bytes) for name in dir(kind)}
+        self.assertEqual(methods & values, set())
+        self.assertEqual((methods - TWO_UNDERSCORES) & of_python, set())
+        self.assertEqual(values & of_python, set())
 
     def test_is_stands_beside_none_true_and_false(self):
         for file, node in nodes(ast.Compare):
